@@ -1,0 +1,1 @@
+"""Which orders of insertion build which search trees."""

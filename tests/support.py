@@ -1,0 +1,131 @@
+"""What several tests share: sample orders, objects of other kinds, and a plain linked search tree."""
+
+import itertools
+
+LIMIT = 10 ** 18
+
+
+class Node:
+    """A node of a linked search tree, against which the package's trees are compared."""
+
+    def __init__(self, key, parent):
+        self.key = key
+        self.parent = parent
+        self.left = None
+        self.right = None
+
+
+def linked(order):
+    """Insert the keys into a linked tree; return its nodes by their keys."""
+    nodes = {}
+    root = None
+    for key in order:
+        parent, at = None, root
+        while at is not None:
+            parent, at = at, at.left if key < at.key else at.right
+        node = nodes[key] = Node(key, parent)
+        if parent is None:
+            root = node
+        elif key < parent.key:
+            parent.left = node
+        else:
+            parent.right = node
+    return nodes
+
+
+def key_of(node):
+    return None if node is None else node.key
+
+
+def linked_pairs(order):
+    nodes = linked(order)
+    return tuple((key, key_of(nodes[key].parent)) for key in sorted(nodes))
+
+
+def linked_path(node):
+    keys = []
+    while node is not None:
+        keys.insert(0, node.key)
+        node = node.parent
+    return keys
+
+
+def linked_below(node):
+    if node is None:
+        return []
+    return linked_below(node.left) + [node.key] + linked_below(node.right)
+
+
+def shuffled(keys, seed):
+    """Return the keys in an order that depends on the seed only."""
+    keys = list(keys)
+    state = seed
+    for last in range(len(keys) - 1, 0, -1):
+        state = (state * 1103515245 + 12345) % 2 ** 31
+        other = (state >> 8) % (last + 1)
+        keys[last], keys[other] = keys[other], keys[last]
+    return keys
+
+
+def all_orders(size):
+    """Return all orders of the keys from 1 to size."""
+    return [list(keys) for keys in itertools.permutations(range(1, size + 1))]
+
+
+def long_orders():
+    """Return orders of many keys, up to forty, some of them at the limits."""
+    orders = [shuffled(range(-size, size * 6, 7), size) for size in range(6, 41)]
+    orders += [shuffled(range(-20, 20), seed) for seed in range(12)]
+    orders.append(list(range(40)))
+    orders.append(list(range(40, 0, -1)))
+    orders.append([way * key for key in range(1, 21) for way in (1, -1)])
+    orders.append(shuffled(list(range(LIMIT - 19, LIMIT + 1)) + list(range(-LIMIT, 20 - LIMIT)), 3))
+    return orders
+
+
+def sample_orders():
+    """Return all orders of up to five keys, and longer ones."""
+    return [order for size in range(6) for order in all_orders(size)] + long_orders()
+
+
+def shifted(value, by):
+    """Return the value with all integers in it shifted; None stays."""
+    if isinstance(value, (list, tuple)):
+        return value.__class__(shifted(item, by) for item in value)
+    return None if value is None else value + by
+
+
+def negated(value):
+    """Return the value with all integers in it negated; None stays, and nothing is reversed."""
+    if isinstance(value, (list, tuple)):
+        return value.__class__(negated(item) for item in value)
+    return None if value is None else -value
+
+
+class Awkward:
+    """An object that can be neither compared, hashed, shown, measured nor iterated over."""
+
+    def refuse(self, *rest):
+        raise RuntimeError("this object must be left alone")
+
+    __eq__ = __ne__ = __lt__ = __gt__ = __le__ = __ge__ = refuse
+    __hash__ = __len__ = __iter__ = __bool__ = __repr__ = __contains__ = __getitem__ = refuse
+
+
+def other_objects():
+    """Return objects that are neither keys nor None, orders or trees."""
+    return [
+        True, False, 1.0, 0.0, float("nan"), float("inf"), 1j, "", "1", "abc", b"", b"1", bytearray(b"1"),
+        [[]], [()], (1,), (1, 2), ((),), {}, {1: 2}, set(), {1}, frozenset(), frozenset([1]), range(0), range(3),
+        object(), Awkward(), len, int, list, tuple, iter([]), iter([1]), (key for key in [1]), NotImplemented, ...,
+        ValueError(1), LIMIT + 1, -LIMIT - 1, 10 ** 5000,
+    ]
+
+
+def raised(call, *args, **named):
+    """Return the error that a call raises, None if it raises none."""
+    try:
+        call(*args, **named)
+    except Exception as error:
+        return error
+    return None
