@@ -15,8 +15,7 @@ def is_tree(candidate):
     """Return whether any object is the tree of some order."""
     if not has_tree_form(candidate):
         return False
-    # All orders in which parents come before their children build the same tree,
-    # so it is enough to try one of them.
+    # A tree is built by every order in which parents come before their children, so one of them decides.
     order = [key for row in rows_of(candidate) for key in row]
     return parents_in(candidate) == parents_after(order)
 
