@@ -1,6 +1,6 @@
 """Keys, and orders in which they are inserted."""
 
-from insertionorders.errors import InvalidOrder, UnknownKey
+from insertionorders.errors import DifferentKeys, DuplicateKey, InvalidKeys, InvalidOrder, UnknownKey
 
 MAX_KEYS = 40
 MAX_KEY = 10 ** 18
@@ -8,9 +8,7 @@ MAX_KEY = 10 ** 18
 
 def is_key(candidate):
     """Return whether any object is a key."""
-    if not isinstance(candidate, int) or isinstance(candidate, bool):
-        return False
-    return -MAX_KEY <= candidate <= MAX_KEY
+    return is_within(candidate, -MAX_KEY, MAX_KEY)
 
 
 def check_order(candidate):
@@ -25,8 +23,47 @@ def check_order(candidate):
         seen.add(key)
 
 
+def is_within(candidate, low, high):
+    """Return whether any object is an integer from low to high."""
+    if not isinstance(candidate, int) or isinstance(candidate, bool):
+        return False
+    return low <= candidate <= high
+
+
 def check_known(keys, key):
     """Raise UnknownKey for any object that is not one of the keys."""
     # True equals 1, and a list cannot be looked up in a dict: so what is no key is turned away first.
     if not is_key(key) or key not in keys:
         raise UnknownKey(key)
+
+
+def check_keys(candidate):
+    """Raise InvalidKeys for any object that is not an ascending list of different keys."""
+    if not isinstance(candidate, list) or len(candidate) > MAX_KEYS:
+        raise InvalidKeys(None)
+    lowest = -MAX_KEY
+    for position, key in enumerate(candidate):
+        if not is_within(key, lowest, MAX_KEY):
+            raise InvalidKeys(position)
+        lowest = key + 1
+
+
+def check_new(present, order):
+    """Raise DuplicateKey for the first key of an order that is present already."""
+    for key in order:
+        if key in present:
+            raise DuplicateKey(key)
+
+
+def check_same_keys(first, second):
+    """Raise DifferentKeys for the smallest key that only one of two lists of keys has."""
+    single = sorted(set(first) ^ set(second))
+    if single:
+        raise DifferentKeys(single[0])
+
+
+def check_two_orders(first, second):
+    """Raise an error unless both objects are orders and have the same keys."""
+    check_order(first)
+    check_order(second)
+    check_same_keys(first, second)

@@ -7,8 +7,7 @@ from insertionorders.orders import MAX_KEYS, check_known, check_order, is_key
 def build(order):
     """Return the tree that the insertions in this order build."""
     check_order(order)
-    parents = parents_after(order)
-    return tuple([(key, parents[key]) for key in sorted(order)])
+    return tree_after(order)
 
 
 def is_tree(candidate):
@@ -16,8 +15,7 @@ def is_tree(candidate):
     if not has_tree_form(candidate):
         return False
     # A tree is built by every order in which parents come before their children, so one of them decides.
-    order = [key for row in rows_of(candidate) for key in row]
-    return parents_in(candidate) == parents_after(order)
+    return parents_in(candidate) == parents_after(row_by_row(candidate))
 
 
 def path(tree, key):
@@ -80,6 +78,12 @@ def check_tree(candidate):
         raise InvalidTree()
 
 
+def tree_after(order):
+    """Return the tree after the insertions of different keys."""
+    parents = parents_after(order)
+    return tuple([(key, parents[key]) for key in sorted(order)])
+
+
 def parents_after(order):
     """Return a dict of the parent of each key after the insertions."""
     parents = {}
@@ -101,7 +105,7 @@ def has_tree_form(candidate):
         return False
     if not all([is_pair(pair) for pair in candidate]):
         return False
-    keys = [key for key, parent in candidate]
+    keys = keys_in(candidate)
     return all([low < high for low, high in zip(keys, keys[1:])])
 
 
@@ -111,6 +115,11 @@ def is_pair(candidate):
         return False
     key, parent = candidate
     return is_key(key) and (parent is None or is_key(parent))
+
+
+def keys_in(pairs):
+    """Return the list of the keys of the pairs, as they stand there."""
+    return [key for key, parent in pairs]
 
 
 def parents_in(tree):
@@ -139,6 +148,11 @@ def rows_of(pairs):
         rows.append(row)
         row = keys_under(pairs, row)
     return rows
+
+
+def row_by_row(pairs):
+    """Return the keys that are reached from no parent, parents before their children: an order of a tree."""
+    return [key for row in rows_of(pairs) for key in row]
 
 
 def keys_under(pairs, parents):

@@ -83,6 +83,35 @@ def long_orders():
     return orders
 
 
+def other_order(order, seed):
+    """Return another order of the same tree, found by the parents in a linked tree."""
+    nodes = linked(order)
+    result = []
+    for key in shuffled(order, seed):
+        # What is missing of the path to a key is inserted right before the key.
+        result += [upper for upper in linked_path(nodes[key]) if upper not in result]
+    return result
+
+
+def orders_by_tree(size):
+    """Return a dict of the ascending list of all orders of each tree of the keys from 1 to size."""
+    found = {}
+    for order in all_orders(size):
+        found.setdefault(linked_pairs(order), []).append(order)
+    return {tree: sorted(orders) for tree, orders in found.items()}
+
+
+def long_pairs():
+    """Return pairs of orders of the same many keys: of the same tree, of trees that differ little, or much."""
+    pairs = []
+    for seed, order in enumerate(long_orders()):
+        alike = other_order(order, seed)
+        at = seed % (len(order) - 1)
+        swapped = alike[:at] + [alike[at + 1], alike[at]] + alike[at + 2:]
+        pairs += [(order, alike), (order, swapped), (order, shuffled(order, seed + 100)), (order, order[::-1])]
+    return pairs
+
+
 def sample_orders():
     """Return all orders of up to five keys, and longer ones."""
     return [order for size in range(6) for order in all_orders(size)] + long_orders()
@@ -120,6 +149,24 @@ def other_objects():
         object(), Awkward(), len, int, list, tuple, iter([]), iter([1]), (key for key in [1]), NotImplemented, ...,
         ValueError(1), LIMIT + 1, -LIMIT - 1, 10 ** 5000,
     ]
+
+
+def not_orders():
+    """Return pairs of an object that is not an order and the position in its error."""
+    wrong = [(None, None), ((), None), ((1, 2), None), (1, None), (list(range(41)), None), ([None] * 41, None)]
+    wrong += [([1, 1], 1), ([True], 0), ([2, None], 1), ([1, 2, 3, 2], 3), ([[1]], 0), ([0, LIMIT + 1], 1)]
+    return wrong + [(other, None) for other in other_objects() if not isinstance(other, list)]
+
+
+def not_trees():
+    """Return objects that are not trees."""
+    wrong = [None, 1, [], [(1, None)], ((1, None), (2, None)), ((1, 2), (2, 1)), ((2, None), (1, 2)), ([1, None],)]
+    return wrong + other_objects()
+
+
+def unknown_keys():
+    """Return objects that are not among the keys from 1 to 40."""
+    return [None, [], [1], (), 0, 41, 777, -1, LIMIT] + other_objects()
 
 
 def raised(call, *args, **named):

@@ -6,15 +6,10 @@ import unittest
 from insertionorders.errors import InvalidOrder, InvalidTree, UnknownKey
 from insertionorders.orders import check_order, is_key
 from insertionorders.trees import below, build, children, depth, height, is_tree, levels, mirrored, path
-from tests.support import LIMIT, Awkward, long_orders, negated, other_objects, raised, shifted
+from tests.support import LIMIT, Awkward, long_orders, negated, not_trees, other_objects, raised, shifted
 
 OF_A_TREE = (height, mirrored)
 OF_A_KEY = (path, depth, children, below)
-
-
-def not_trees():
-    wrong = [None, 1, [], [(1, None)], ((1, None), (2, None)), ((1, 2), (2, 1)), ((2, None), (1, 2)), ([1, None],)]
-    return wrong + other_objects()
 
 
 class ArgumentNames(unittest.TestCase):

@@ -57,14 +57,26 @@ def bound_names(node):
     return []
 
 
+def bound_at_top(statement):
+    """Return the names that a statement at module level defines."""
+    if isinstance(statement, (ast.FunctionDef, ast.ClassDef)):
+        return [statement.name]
+    if isinstance(statement, ast.Assign):
+        return [target.id for target in statement.targets]
+    return []
+
+
 def defined_at_top(source):
-    names = set()
-    for statement in ast.parse(source).body:
-        if isinstance(statement, (ast.FunctionDef, ast.ClassDef)):
-            names.add(statement.name)
-        elif isinstance(statement, ast.Assign):
-            names.update(target.id for target in statement.targets)
-    return names
+    return {name for statement in ast.parse(source).body for name in bound_at_top(statement)}
+
+
+def imported(source):
+    return [alias.asname or alias.name for node in nodes(source) if isinstance(node, ast.ImportFrom)
+            for alias in node.names]
+
+
+def modules_imported(source):
+    return {node.module.split(".")[1] for node in nodes(source) if isinstance(node, ast.ImportFrom)}
 
 
 class Files(unittest.TestCase):
@@ -117,6 +129,21 @@ class Names(unittest.TestCase):
                         self.assertIn(node.func.attr, METHODS | own | SPECIAL)
 
 
+    def test_each_name_is_bound_once_at_the_top(self):
+        for path, source in sources().items():
+            names = imported(source) + [name for node in ast.parse(source).body for name in bound_at_top(node)]
+            with self.subTest(path.name):
+                self.assertEqual(len(names), len(set(names)))
+
+    def test_no_local_name_hides_an_import_or_a_class(self):
+        for path, source in sources().items():
+            classes = [node.name for node in nodes(source) if isinstance(node, ast.ClassDef)]
+            for node in nodes(source):
+                if isinstance(node, (ast.arg, ast.Name)):
+                    with self.subTest(path.name, line=node.lineno):
+                        self.assertFalse(set(bound_names(node)) & set(imported(source) + classes))
+
+
 class Statements(unittest.TestCase):
     def test_imports(self):
         for path, source in sources().items():
@@ -130,6 +157,19 @@ class Statements(unittest.TestCase):
                     self.assertEqual((package, node.level), ("insertionorders", 0))
                     defined = defined_at_top((FOLDER / (name + ".py")).read_text(encoding="utf-8"))
                     self.assertLessEqual({alias.name for alias in node.names}, defined)
+
+    def test_no_file_imports_itself(self):
+        needed = {path.stem: modules_imported(source) for path, source in sources().items()}
+        for name in needed:
+            reached, new = set(), needed[name]
+            while new:
+                reached |= new
+                new = {further for one in reached for further in needed[one]} - reached
+            with self.subTest(name):
+                self.assertNotIn(name, reached)
+
+    def test_ancestry_builds_no_tree(self):
+        self.assertEqual(modules_imported((FOLDER / "ancestry.py").read_text(encoding="utf-8")), {"orders"})
 
     def test_barred_statements(self):
         for path, source in sources().items():
