@@ -64,12 +64,10 @@ def sizes_in(tree):
 
 def count_with(sizes):
     """Return the number of orders of a tree with these sizes: the factorial divided by all of them."""
-    factorial = 1
     product = 1
-    for amount, size in enumerate(sizes.values(), start=1):
-        factorial *= amount
+    for size in sizes.values():
         product *= size
-    return factorial // product
+    return factorial(len(sizes)) // product
 
 
 def order_with(tree, sizes, number):
@@ -103,3 +101,16 @@ def smaller(keys, key):
 def free_after(tree, free, key):
     """Return the list of the keys that can come next after a free key is inserted."""
     return [other for other in free if other != key] + keys_under(tree, [key])
+
+
+def factorial(amount):
+    """Return the number of orders of so many keys."""
+    product = 1
+    for factor in range(2, amount + 1):
+        product *= factor
+    return product
+
+
+def choose(amount, chosen):
+    """Return the number of ways to choose so many of an amount."""
+    return factorial(amount) // (factorial(chosen) * factorial(amount - chosen))

@@ -1,10 +1,10 @@
 """What orders do on trees that contain keys already, and which places make two orders act alike."""
 
 from insertionorders.ancestry import meeting_in
-from insertionorders.errors import InvalidPosition, TooLarge
+from insertionorders.errors import InvalidPosition
 from insertionorders.exchanges import same_tree
-from insertionorders.orders import MAX_KEY, MAX_KEYS, check_keys, check_new, check_order, check_two_orders
-from insertionorders.orders import is_key, is_within
+from insertionorders.orders import MAX_KEY, MAX_KEYS, ascending_until, check_amount, check_keys, check_new
+from insertionorders.orders import check_order, check_two_orders, is_key
 from insertionorders.trees import check_tree, keys_in, row_by_row, tree_after
 
 
@@ -13,9 +13,7 @@ def grow(tree, order):
     check_tree(tree)
     check_order(order)
     check_new(keys_in(tree), order)
-    amount = len(tree) + len(order)
-    if amount > MAX_KEYS:
-        raise TooLarge(amount)
+    check_amount(len(tree) + len(order), MAX_KEYS)
     return tree_after(row_by_row(tree) + order)
 
 
@@ -91,11 +89,9 @@ def check_places(size, places):
     """Raise InvalidPosition unless the object is an ascending list of places between so many keys."""
     if not isinstance(places, list):
         raise InvalidPosition(None)
-    lowest = 1
-    for place in places:
-        if not is_within(place, lowest, size - 1):
-            raise InvalidPosition(place)
-        lowest = place + 1
+    position = ascending_until(places, 1, size - 1)
+    if position < len(places):
+        raise InvalidPosition(places[position])
 
 
 def cut(starts, order):

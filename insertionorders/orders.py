@@ -1,6 +1,6 @@
 """Keys, and orders in which they are inserted."""
 
-from insertionorders.errors import DifferentKeys, DuplicateKey, InvalidKeys, InvalidOrder, UnknownKey
+from insertionorders.errors import DifferentKeys, DuplicateKey, InvalidKeys, InvalidOrder, TooLarge, UnknownKey
 
 MAX_KEYS = 40
 MAX_KEY = 10 ** 18
@@ -37,15 +37,40 @@ def check_known(keys, key):
         raise UnknownKey(key)
 
 
+def check_two_known(keys, first, second):
+    """Raise UnknownKey for the first, then for the second object unless they are two different ones of the keys."""
+    check_known(keys, first)
+    check_known(keys, second)
+    if first == second:
+        raise UnknownKey(second)
+
+
+def check_amount(amount, most):
+    """Raise TooLarge if there are more keys than allowed."""
+    if amount > most:
+        raise TooLarge(amount)
+
+
 def check_keys(candidate):
     """Raise InvalidKeys for any object that is not an ascending list of different keys."""
     if not isinstance(candidate, list) or len(candidate) > MAX_KEYS:
         raise InvalidKeys(None)
-    lowest = -MAX_KEY
-    for position, key in enumerate(candidate):
-        if not is_within(key, lowest, MAX_KEY):
-            raise InvalidKeys(position)
-        lowest = key + 1
+    position = ascending_until(candidate, -MAX_KEY, MAX_KEY)
+    if position < len(candidate):
+        raise InvalidKeys(position)
+
+
+def ascending_until(candidates, least, most):
+    """Return the position of the first object that is no integer in the bounds, or not greater than the previous one.
+
+    It is the length of the list if there is no such object.
+    """
+    lowest = least
+    for position, candidate in enumerate(candidates):
+        if not is_within(candidate, lowest, most):
+            return position
+        lowest = candidate + 1
+    return len(candidates)
 
 
 def check_new(present, order):

@@ -117,18 +117,43 @@ def sample_orders():
     return [order for size in range(6) for order in all_orders(size)] + long_orders()
 
 
+def all_trees(size):
+    """Return all trees of the keys from 1 to size."""
+    return list(orders_by_tree(size))
+
+
+def linked_above(nodes, upper, lower):
+    """Return whether a key is a proper ancestor of another one in a linked tree."""
+    return upper != lower and upper in linked_path(nodes[lower])
+
+
+def keeps(order, facts):
+    """Return whether each fact holds in an order."""
+    return all(order.index(earlier) < order.index(later) for earlier, later in facts)
+
+
+def keeping(keys, facts):
+    """Return the ascending list of all orders of the keys that keep the facts."""
+    return [list(order) for order in itertools.permutations(sorted(keys)) if keeps(order, facts)]
+
+
+def some_facts(keys, seed, amount):
+    """Return some facts, at most so many, that an order which depends on the seed keeps."""
+    return shuffled(itertools.combinations(shuffled(keys, seed), 2), seed + 1)[:amount]
+
+
 def shifted(value, by):
-    """Return the value with all integers in it shifted; None stays."""
+    """Return the value with all integers in it shifted; None, bools and strings stay."""
     if isinstance(value, (list, tuple)):
         return value.__class__(shifted(item, by) for item in value)
-    return None if value is None else value + by
+    return value if value is None or isinstance(value, (bool, str)) else value + by
 
 
 def negated(value):
-    """Return the value with all integers in it negated; None stays, and nothing is reversed."""
+    """Return the value with all integers in it negated; None, bools and strings stay, and nothing is reversed."""
     if isinstance(value, (list, tuple)):
         return value.__class__(negated(item) for item in value)
-    return None if value is None else -value
+    return value if value is None or isinstance(value, (bool, str)) else -value
 
 
 class Awkward:
@@ -155,6 +180,15 @@ def not_orders():
     """Return pairs of an object that is not an order and the position in its error."""
     wrong = [(None, None), ((), None), ((1, 2), None), (1, None), (list(range(41)), None), ([None] * 41, None)]
     wrong += [([1, 1], 1), ([True], 0), ([2, None], 1), ([1, 2, 3, 2], 3), ([[1]], 0), ([0, LIMIT + 1], 1)]
+    return wrong + [(other, None) for other in other_objects() if not isinstance(other, list)]
+
+
+def not_keys():
+    """Return pairs of an object that is not an ascending list of keys and the position in its error."""
+    wrong = [(None, None), ((), None), ((1, 2), None), (1, None), (list(range(41)), None), ([None] * 41, None)]
+    wrong += [([2, 1], 1), ([1, 1], 1), ([1, 2, 2], 2), ([1, 3, 2, 4], 2), ([True], 0), ([0, True], 1), ([1, None], 1)]
+    wrong += [([LIMIT + 1], 0), ([-LIMIT - 1], 0), ([LIMIT, LIMIT], 1), ([1, 2, [3]], 2), ([Awkward()], 0)]
+    wrong += [([1, element], 1) for element in [None, [], ()] + other_objects()]
     return wrong + [(other, None) for other in other_objects() if not isinstance(other, list)]
 
 

@@ -1,13 +1,16 @@
-"""Point [2]: every function of stages 2 to 5 takes its arguments by position or by the names of the interface."""
+"""Point [2]: every function from stage 2 on takes its arguments by position or by the names of the interface."""
 
 import inspect
 import itertools
 import unittest
 
-from insertionorders import ancestry, counting, exchanges, gaps
+from insertionorders import ancestry, counting, exchanges, facts, gaps, observations, profiles, rotations
 from insertionorders.trees import build
 
 TREE = build([2, 1, 3])
+ASCENDING = build([1, 2, 3])
+SURE = ("always", [[2, 1]])
+BOTH = [(1, 2, True), (2, 1, True)]
 
 # Each row is the function, its arguments in the order of the interface, and its result.
 CALLS = (
@@ -37,6 +40,42 @@ CALLS = (
     (gaps.hiding_places, {"first": [1, 3], "second": [3, 1]}, [1]),
     (gaps.hiding_certificate, {"first": [1, 3], "second": [3, 1]}, [(1, 3)]),
     (gaps.is_hiding_certificate, {"first": [1, 3], "second": [3, 1], "candidate": [(1, 3)]}, True),
+    (rotations.rotated, {"tree": TREE, "key": 1}, ((1, None), (2, 1), (3, 2))),
+    (rotations.rotation_order, {"tree": build([2, 1]), "key": 1}, ([2, 1], 0)),
+    (rotations.intervals, {"tree": TREE}, [(1, 1), (1, 3), (3, 3)]),
+    (rotations.missing_intervals, {"first": TREE, "second": ASCENDING}, [(1, 1)]),
+    (rotations.route, {"first": TREE, "second": ASCENDING}, [1]),
+    (rotations.is_route, {"first": TREE, "second": ASCENDING, "candidate": [1]}, True),
+    (rotations.fewest_rotations, {"first": build([3, 2, 1]), "second": ASCENDING}, 2),
+    (facts.check_facts, {"keys": [1, 2], "facts": [(1, 2)]}, None),
+    (facts.kept_order, {"keys": [1, 2, 3], "facts": [(3, 1)]}, [2, 3, 1]),
+    (facts.standing, {"keys": [1, 2], "facts": [(2, 1)], "upper": 2, "lower": 1}, SURE),
+    (facts.is_standing, {"keys": [1, 2], "facts": [(2, 1)], "upper": 2, "lower": 1, "candidate": SURE}, True),
+    (facts.sure_pairs, {"keys": [1, 2], "facts": [(2, 1)]}, [(2, 1)]),
+    (facts.keeping_order, {"facts": [(3, 1)], "tree": TREE}, [2, 3, 1]),
+    (facts.count_keeping, {"keys": [1, 2, 3], "facts": [(1, 2)]}, 3),
+    (profiles.height_counts, {"size": 3}, [0, 0, 2, 4]),
+    (profiles.total_counts, {"size": 3}, [0, 0, 2, 4]),
+    (profiles.depth_counts, {"size": 2, "rank": 0}, [1, 1]),
+    (profiles.least_total, {"size": 3}, 2),
+    (profiles.greatest_total, {"size": 3}, 3),
+    (profiles.flattest_order, {"keys": [5]}, [5]),
+    (profiles.steepest_order, {"keys": [5]}, [5]),
+    (profiles.kept_totals, {"keys": [1, 2], "facts": [(1, 2)]}, [0, 1]),
+    (profiles.kept_depths, {"keys": [1, 2], "facts": [(1, 2)], "key": 2}, [0, 1]),
+    (profiles.kept_heights, {"keys": [1, 2], "facts": [(1, 2)]}, [0, 0, 1]),
+    (observations.fitting_tree, {"keys": [1, 2], "observations": [(2, 1, True)]}, ((1, 2), (2, None))),
+    (observations.search_observations, {"keys": [1, 2, 3], "path": [2, 1]}, [(2, 1, True), (3, 1, False)]),
+    (observations.answer, {"keys": [1, 2], "observations": [(2, 1, False)], "upper": 1, "lower": 2}, "always"),
+    (observations.clash, {"keys": [1, 2], "observations": BOTH}, [0, 1]),
+    (observations.is_clash, {"keys": [1, 2], "observations": BOTH, "candidate": [0, 1]}, True),
+    (observations.best_question, {"keys": [1, 2], "observations": []}, (1, 2)),
+)
+
+# The same for the functions whose last argument is taken by its name only, and may be left out.
+WITH_A_HEIGHT = (
+    (observations.fitting_trees, {"keys": [1, 2, 3], "observations": [(2, 1, True)], "max_height": 2}, 1, 2),
+    (observations.fitting_orders, {"keys": [1, 2, 3], "observations": [(2, 1, True)], "max_height": 2}, 2, 3),
 )
 
 
@@ -67,6 +106,21 @@ class ArgumentNames(unittest.TestCase):
             first, *others = arguments
             with self.subTest(function.__name__):
                 self.same(called(function, arguments[first], **{name: arguments[name] for name in others}), expected)
+
+    def test_by_name_only(self):
+        for function, arguments, expected, without in WITH_A_HEIGHT:
+            for names in itertools.permutations(arguments):
+                with self.subTest(function.__name__, names=names):
+                    self.same(function(**{name: arguments[name] for name in names}), expected)
+            keys, known, most = arguments.values()
+            self.same(function(keys, known, max_height=most), expected)
+            self.same(function(keys, known), without)
+            self.same(function(observations=known, keys=keys), without)
+            self.same(function(keys, known, max_height=None), without)
+            self.assertRaises(TypeError, function, keys, known, most)
+            parameters = inspect.signature(function).parameters
+            self.assertEqual(list(parameters), list(arguments))
+            self.assertIs(parameters["max_height"].kind, inspect.Parameter.KEYWORD_ONLY)
 
     def test_there_are_no_others(self):
         for function, arguments, expected in CALLS:

@@ -6,8 +6,8 @@ import unittest
 from insertionorders.errors import DifferentKeys, DuplicateKey, InvalidKeys, InvalidOrder, InvalidTree, TooLarge
 from insertionorders.gaps import act_alike, grow, parts, separating_gap
 from insertionorders.trees import build
-from tests.support import LIMIT, Awkward, linked_pairs, long_orders, long_pairs, not_orders, not_trees, other_objects
-from tests.support import raised, sample_orders, shuffled
+from tests.support import LIMIT, linked_pairs, long_orders, long_pairs, not_keys, not_orders, not_trees, raised
+from tests.support import sample_orders, shuffled
 
 OF_TWO_ORDERS = (act_alike, separating_gap)
 
@@ -23,15 +23,6 @@ def trees_of_keys(keys):
 def keys_in_gap(present, gap, keys):
     """Return those keys that have as many present keys below them as the gap's number."""
     return [key for key in keys if sum(one < key for one in present) == gap]
-
-
-def not_keys():
-    """Return pairs of an object that is not a list of present keys and the position in its error."""
-    wrong = [(None, None), ((), None), ((1, 2), None), (1, None), (list(range(41)), None), ([None] * 41, None)]
-    wrong += [([2, 1], 1), ([1, 1], 1), ([1, 2, 2], 2), ([1, 3, 2, 4], 2), ([True], 0), ([0, True], 1), ([1, None], 1)]
-    wrong += [([LIMIT + 1], 0), ([-LIMIT - 1], 0), ([LIMIT, LIMIT], 1), ([1, 2, [3]], 2), ([Awkward()], 0)]
-    wrong += [([1, element], 1) for element in [None, [], ()] + other_objects()]
-    return wrong + [(other, None) for other in other_objects() if not isinstance(other, list)]
 
 
 class Grow(unittest.TestCase):
