@@ -86,10 +86,9 @@ def check_facts_about(keys, facts):
     for position, fact in enumerate(facts):
         if not is_fact(keys, fact):
             raise InvalidFacts(position)
-    cycles = [shortest_chain(keys, facts, key, key) for key in keys]
-    found = [cycle for cycle in cycles if cycle is not None]
-    if found:
-        raise Contradiction(min(found, key=len))
+    cycle = shortest_cycle(keys, facts)
+    if cycle is not None:
+        raise Contradiction(cycle)
 
 
 def is_fact(keys, candidate):
@@ -142,6 +141,13 @@ def shortest_chain(keys, facts, begin, end):
     return chain[::-1]
 
 
+def shortest_cycle(keys, facts):
+    """Return a chain of the fewest keys that begins and ends with the same key, None if there is none."""
+    cycles = [shortest_chain(keys, facts, key, key) for key in keys]
+    found = [cycle for cycle in cycles if cycle is not None]
+    return min(found, key=len) if found else None
+
+
 def keys_after(keys, facts, key):
     """Return the list of the keys to which a chain leads from the key."""
     return list(chain_steps(keys, facts, key))
@@ -192,9 +198,7 @@ def are_chains(facts, begin, ends, candidate):
 
 def is_keeping(keys, facts, candidate):
     """Return whether any object is an order of all the keys that keeps the facts."""
-    if not isinstance(candidate, list) or len(candidate) != len(keys):
-        return False
-    if not all([is_key(key) for key in candidate]) or sorted(candidate) != keys:
+    if not isinstance(candidate, list) or not all([is_key(key) for key in candidate]) or sorted(candidate) != keys:
         return False
     return all([candidate.index(earlier) < candidate.index(later) for earlier, later in facts])
 

@@ -56,8 +56,8 @@ def clash(keys, observations):
     roots, barren = roots_found(keys, observations)
     if not barren:
         return None
-    # One observation against each key of the barren part leaves no tree; then what is not needed is left out.
-    needed = sorted({first_against(observations, barren, key) for key in barren})
+    # Observations against all keys of the barren part leave no tree; then what is not needed is left out.
+    needed = positions_against(observations, barren)
     for position in list(needed):
         fewer = [other for other in needed if other != position]
         if not is_fitted(keys, [observations[other] for other in fewer]):
@@ -191,14 +191,19 @@ def free_roots(ends, begin, end):
     return [place for place in range(begin, end) if end <= ends[place][begin]]
 
 
-def first_against(observations, part, key):
-    """Return the position of the first observation about keys of a part that bars a key as its root."""
+def positions_against(observations, part):
+    """Return an ascending list of positions of observations that bar all keys of a barren part as its root."""
+    positions = []
+    free = part
     for position, (upper, lower, truth) in enumerate(observations):
         low = min(upper, lower)
         high = max(upper, lower)
-        if part[0] <= low <= key <= high <= part[-1] and truth != (key == upper):
-            return position
-    return None
+        if part[0] <= low and high <= part[-1]:
+            fewer = [key for key in free if not low <= key <= high or truth == (key == upper)]
+            if len(fewer) < len(free):
+                positions.append(position)
+                free = fewer
+    return positions
 
 
 def count_trees(keys, observations, max_height):

@@ -23,11 +23,14 @@ def check_order(candidate):
         seen.add(key)
 
 
+def is_integer(candidate):
+    """Return whether any object is an integer, which True and False are not."""
+    return isinstance(candidate, int) and not isinstance(candidate, bool)
+
+
 def is_within(candidate, low, high):
     """Return whether any object is an integer from low to high."""
-    if not isinstance(candidate, int) or isinstance(candidate, bool):
-        return False
-    return low <= candidate <= high
+    return is_integer(candidate) and low <= candidate <= high
 
 
 def check_known(keys, key):
@@ -82,9 +85,9 @@ def check_new(present, order):
 
 def check_same_keys(first, second):
     """Raise DifferentKeys for the smallest key that only one of two lists of keys has."""
-    single = sorted(set(first) ^ set(second))
+    single = [key for key in first if key not in second] + [key for key in second if key not in first]
     if single:
-        raise DifferentKeys(single[0])
+        raise DifferentKeys(min(single))
 
 
 def check_two_orders(first, second):
