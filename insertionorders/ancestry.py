@@ -35,7 +35,7 @@ def meeting(order, first, second):
 def depths(order):
     """Return the list of the depths of the keys in the order."""
     check_order(order)
-    return [len(keys_above(order, key)) for key in order]
+    return depths_in(order)
 
 
 def total(order):
@@ -71,3 +71,14 @@ def keys_above(order, key):
             above.append(other)
             high = other
     return above
+
+
+def depths_in(order):
+    """Return the list of the depths of the keys in a valid order."""
+    return [len(keys_above(order, key)) for key in order]
+
+
+def parent_in(order, key):
+    """Return the parent of a known key, None for the root."""
+    above = keys_above(order, key)
+    return above[-1] if above else None

@@ -1,6 +1,6 @@
 """Numbers of orders by the height, the total and the depths of the trees that they build."""
 
-from insertionorders.ancestry import depths
+from insertionorders.ancestry import depths_in
 from insertionorders.counting import choose, factorial
 from insertionorders.errors import InvalidNumber, InvalidSize
 from insertionorders.facts import check_facts, counts_by_worth, keys_before
@@ -100,7 +100,7 @@ def kept_heights(keys, facts):
     check_amount(len(keys), MAX_KEPT_HEIGHTS)
     counts = [0] * (len(keys) + 1)
     for order in orders_keeping(keys, facts):
-        counts[max([0] + [depth + 1 for depth in depths(order)])] += 1
+        counts[max([0] + [depth + 1 for depth in depths_in(order)])] += 1
     return counts
 
 

@@ -1,5 +1,6 @@
 """Search trees, as tuples of pairs (key, parent) in ascending order of the keys."""
 
+from insertionorders.ancestry import parent_in
 from insertionorders.errors import InvalidTree
 from insertionorders.orders import MAX_KEYS, check_known, check_order, is_key
 
@@ -15,7 +16,7 @@ def is_tree(candidate):
     if not has_tree_form(candidate):
         return False
     # A tree is built by every order in which parents come before their children, so one of them decides.
-    return parents_in(candidate) == parents_after(row_by_row(candidate))
+    return candidate == tree_after(row_by_row(candidate))
 
 
 def path(tree, key):
@@ -80,23 +81,7 @@ def check_tree(candidate):
 
 def tree_after(order):
     """Return the tree after the insertions of different keys."""
-    parents = parents_after(order)
-    return tuple([(key, parents[key]) for key in sorted(order)])
-
-
-def parents_after(order):
-    """Return a dict of the parent of each key after the insertions."""
-    parents = {}
-    # A place is the left or the right side of a key; the place of the root is at no key.
-    taken = {}
-    for key in order:
-        place = (None, False)
-        while place in taken:
-            met = taken[place]
-            place = (met, key > met)
-        taken[place] = key
-        parents[key] = place[0]
-    return parents
+    return tuple([(key, parent_in(order, key)) for key in sorted(order)])
 
 
 def has_tree_form(candidate):

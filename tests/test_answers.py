@@ -168,6 +168,8 @@ class IsClash(unittest.TestCase):
             self.assertIs(is_clash([1, 2], right, candidate), True)
         for candidate in ([0, 2], [1, 0], [0, 0, 1], [0, 1, 2], [0, 1, 3], [-3, 1], [-2, 2], [0, -1], [], [0], [1]):
             self.assertIs(is_clash([1, 2], right, candidate), False)
+        for candidate in ([-1, 0], [-1, 1], [-2, 1], [-2, -1]):
+            self.assertIs(is_clash([1, 2], UNSATISFIABLE, candidate), False)
         for candidate in ([False, 1], [0, True], [0, 1.0], [0.0, 1], [0, None], ["0", 1], [[0], 1], [(0, 1)]):
             self.assertIs(is_clash([1, 2], right, candidate), False)
 

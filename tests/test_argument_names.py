@@ -4,7 +4,9 @@ import inspect
 import itertools
 import unittest
 
-from insertionorders import ancestry, counting, exchanges, facts, gaps, observations, profiles, rotations
+from insertionorders import ancestry, counting, exchanges, facts, gaps, merges, observations, profiles, rotations, texts
+from insertionorders.console import Console
+from insertionorders.keeper import Keeper
 from insertionorders.trees import build
 
 TREE = build([2, 1, 3])
@@ -70,6 +72,31 @@ CALLS = (
     (observations.clash, {"keys": [1, 2], "observations": BOTH}, [0, 1]),
     (observations.is_clash, {"keys": [1, 2], "observations": BOTH, "candidate": [0, 1]}, True),
     (observations.best_question, {"keys": [1, 2], "observations": []}, (1, 2)),
+    (merges.merges_building, {"first": [2], "second": [1, 3], "tree": TREE}, 1),
+    (merges.merge_for, {"first": [2], "second": [1, 3], "tree": TREE}, ("order", [2, 1, 3])),
+    (merges.is_merge_cycle, {"first": [1, 2], "second": [3], "tree": TREE, "candidate": [1, 2]}, True),
+    (merges.merged_trees, {"first": [2], "second": [1]}, [(build([1, 2]), 1), (build([2, 1]), 1)]),
+    (texts.format_order, {"order": [2, -1]}, "2 -1"),
+    (texts.format_tree, {"tree": TREE}, "1<2 2<* 3<2"),
+    (texts.parse_order, {"text": "2 -1"}, [2, -1]),
+    (texts.parse_tree, {"text": "1<2 2<* 3<2"}, TREE),
+)
+
+# The methods of a keeper of three keys: the name, the arguments, and the result.
+METHODS = (
+    ("insert", {"user": "bob", "key": 9}, 3),
+    ("withdraw", {"number": 1}, 1),
+    ("withdraw_user", {"user": "ann"}, [2, 1, 3]),
+    ("insert_all", {"user": "bob", "keys": [9, 8]}, [3, 4]),
+    ("numbers", {}, [0, 1, 2]),
+    ("path", {"key": 3}, [2, 3]),
+    ("consequences", {"number": 0}, [1, 3]),
+    ("move", {"number": 0, "position": 2}, None),
+    ("set_limit", {"limit": 7}, None),
+    ("undo", {}, None),
+    ("user_of", {"number": 2}, "ann"),
+    ("trial", {"numbers": [0, 2]}, ((1, None),)),
+    ("clone", {}, Keeper.of("ann", [2, 1, 3])),
 )
 
 # The same for the functions whose last argument is taken by its name only, and may be left out.
@@ -106,6 +133,28 @@ class ArgumentNames(unittest.TestCase):
             first, *others = arguments
             with self.subTest(function.__name__):
                 self.same(called(function, arguments[first], **{name: arguments[name] for name in others}), expected)
+
+    def test_methods(self):
+        for name, arguments, expected in METHODS:
+            for names in itertools.permutations(arguments):
+                given = {one: arguments[one] for one in names}
+                before = repr(arguments)
+                with self.subTest(name, names=names):
+                    self.same(getattr(Keeper.of("ann", [2, 1, 3]), name)(**given), expected)
+                    self.assertEqual(repr(arguments), before)
+            self.same(getattr(Keeper.of("ann", [2, 1, 3]), name)(*arguments.values()), expected)
+            self.assertEqual(list(inspect.signature(getattr(Keeper, name)).parameters), ["self", *arguments])
+
+    def test_making_keepers_and_consoles(self):
+        self.assertEqual(Keeper(limit=3), Keeper(3))
+        self.assertEqual(Keeper(), Keeper(limit=40))
+        self.assertEqual(Keeper.of(user="ann", order=[2, 1]), Keeper.of("ann", [2, 1]))
+        self.assertEqual(Keeper.of(order=[2, 1], user="ann"), Keeper.of("ann", [2, 1]))
+        self.assertEqual(Console().run(line="order"), "-")
+
+    def test_any_number_of_orders(self):
+        self.assertEqual(merges.count_merges([1], [2], [3]), 6)
+        self.assertRaises(TypeError, merges.count_merges, orders=[[1], [2]])
 
     def test_by_name_only(self):
         for function, arguments, expected, without in WITH_A_HEIGHT:

@@ -1,5 +1,8 @@
 """The section "Errors"."""
 
+import importlib
+import inspect
+import pathlib
 import unittest
 
 from insertionorders import errors
@@ -42,6 +45,21 @@ class Bases(unittest.TestCase):
     def test_nothing_else_is_defined(self):
         defined = {name for name in vars(errors) if not name.startswith("__")}
         self.assertEqual(defined, {name for name, base, field in listed()} | {"InsertionError"})
+
+
+class Package(unittest.TestCase):
+    def test_no_class_elsewhere_is_or_has_a_base(self):
+        names = [path.stem for path in pathlib.Path(errors.__file__).parent.glob("*.py") if path.stem != "__init__"]
+        self.assertGreaterEqual(len(names), 15)
+        found = []
+        for name in names:
+            module = importlib.import_module("insertionorders." + name)
+            for one in vars(module).values():
+                if inspect.isclass(one) and one.__module__ == module.__name__ and module is not errors:
+                    found.append(one.__name__)
+                    self.assertEqual(one.__bases__, (object,))
+                    self.assertEqual(one.__subclasses__(), [])
+        self.assertEqual(sorted(found), ["Console", "Keeper"])
 
 
 class Fields(unittest.TestCase):

@@ -128,7 +128,6 @@ class Names(unittest.TestCase):
                     with self.subTest(path.name, name=node.func.attr):
                         self.assertIn(node.func.attr, METHODS | own | SPECIAL)
 
-
     def test_each_name_is_bound_once_at_the_top(self):
         for path, source in sources().items():
             names = imported(source) + [name for node in ast.parse(source).body for name in bound_at_top(node)]
@@ -186,6 +185,27 @@ class Statements(unittest.TestCase):
                             with self.subTest(path.name, line=node.lineno):
                                 self.assertIn(getattr(other, "value", 0), (None, True, False))
                                 self.assertIsInstance(other, ast.Constant)
+
+    def test_no_generator_expressions(self):
+        # A class of the package has an __eq__, so that any, all, min, max, sum and sorted take lists (L7).
+        for path, source in sources().items():
+            for node in nodes(source):
+                with self.subTest(path.name, line=getattr(node, "lineno", None)):
+                    self.assertNotIsInstance(node, ast.GeneratorExp)
+
+    def test_no_method_is_an_attribute_elsewhere(self):
+        classes = [node for source in sources().values() for node in nodes(source) if isinstance(node, ast.ClassDef)]
+        methods = {node.name for one in classes for node in one.body if isinstance(node, ast.FunctionDef)}
+        stored = {node.attr for one in classes for node in ast.walk(one)
+                  if isinstance(node, ast.Attribute) and isinstance(node.ctx, ast.Store)}
+        self.assertFalse(methods & stored)
+
+    def test_keywords_of_builtins(self):
+        for path, source in sources().items():
+            for node in nodes(source):
+                if isinstance(node, ast.Call) and isinstance(node.func, ast.Name) and node.func.id in BUILTINS:
+                    with self.subTest(path.name, line=node.lineno):
+                        self.assertLessEqual({one.arg for one in node.keywords}, {"key", "reverse", "start", "default"})
 
     def test_constants(self):
         for path, source in sources().items():

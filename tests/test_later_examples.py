@@ -3,7 +3,10 @@
 import doctest
 import unittest
 
+from insertionorders.errors import ParseError
+from insertionorders.texts import parse_order
 from insertionorders.trees import build
+from tests.support import raised
 
 ROTATIONS = """
 >>> from insertionorders.rotations import rotated
@@ -113,6 +116,56 @@ True
 (1, 2)
 """
 
+MERGES = """
+>>> from insertionorders.merges import count_merges
+>>> count_merges([1, 2], [3])
+3
+>>> count_merges()
+1
+>>> from insertionorders.merges import merges_building
+>>> merges_building([1], [2], build([1, 2]))
+1
+>>> from insertionorders.merges import merge_for
+>>> merge_for([1], [2], build([2, 1]))
+('order', [2, 1])
+>>> from insertionorders.merges import is_merge_cycle
+>>> is_merge_cycle([1, 2], [], build([2, 1]), [1, 2])
+True
+>>> from insertionorders.merges import merged_trees
+>>> merged_trees([1], [2])
+[(((1, None), (2, 1)), 1), (((1, 2), (2, None)), 1)]
+"""
+
+TEXTS = """
+>>> from insertionorders.texts import format_order
+>>> format_order([2, -1])
+'2 -1'
+>>> from insertionorders.texts import format_tree
+>>> format_tree(build([2, 1]))
+'1<2 2<*'
+>>> from insertionorders.texts import parse_tree
+>>> parse_tree('1<2 2<*')
+((1, 2), (2, None))
+"""
+
+KEEPER = """
+>>> from insertionorders.keeper import Keeper
+>>> keeper = Keeper.of('ann', [2, 1, 3])
+>>> keeper.withdraw(0)
+2
+>>> keeper.tree
+((1, None), (3, 1))
+"""
+
+CONSOLE = """
+>>> from insertionorders.console import Console
+>>> console = Console()
+>>> console.run('insert ann 2')
+'0'
+>>> console.run('tree')
+'2<*'
+"""
+
 
 class Examples(unittest.TestCase):
     def run_examples(self, text):
@@ -132,3 +185,18 @@ class Examples(unittest.TestCase):
 
     def test_observations(self):
         self.run_examples(OBSERVATIONS)
+
+    def test_merges(self):
+        self.run_examples(MERGES)
+
+    def test_texts(self):
+        self.run_examples(TEXTS)
+        error = raised(parse_order, '2 x')
+        self.assertIs(error.__class__, ParseError)
+        self.assertEqual(error.word, 1)
+
+    def test_keeper(self):
+        self.run_examples(KEEPER)
+
+    def test_console(self):
+        self.run_examples(CONSOLE)
