@@ -2,7 +2,7 @@
 
 from insertionorders.ancestry import is_above
 from insertionorders.errors import Contradiction, InvalidFacts
-from insertionorders.orders import check_amount, check_keys, check_two_known, is_key
+from insertionorders.orders import MAX_KEYS, check_amount, check_keys, check_two_known, is_key
 from insertionorders.trees import check_tree, keys_in
 
 MAX_FACTS = 200
@@ -181,12 +181,12 @@ def early_order(keys, facts, key):
 
 def is_chain(facts, begin, end, candidate):
     """Return whether any object is a chain from one key to another."""
-    if not isinstance(candidate, list) or len(candidate) < 2 or not all([is_key(key) for key in candidate]):
+    # Facts that can be kept make no chain with a key twice, so none that is longer than all keys.
+    if not isinstance(candidate, list) or not 2 <= len(candidate) <= MAX_KEYS:
         return False
-    for pair in zip(candidate, candidate[1:]):
-        if pair not in facts:
-            return False
-    return candidate[0] == begin and candidate[-1] == end
+    if not all([is_key(key) for key in candidate]) or candidate[0] != begin or candidate[-1] != end:
+        return False
+    return all([pair in facts for pair in zip(candidate, candidate[1:])])
 
 
 def are_chains(facts, begin, ends, candidate):

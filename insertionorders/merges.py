@@ -26,16 +26,15 @@ def merges_building(first, second, tree):
     check_merge(first, second, tree)
     parents = parents_in(tree)
     # The number of ways to begin with so many keys of the first and of the second order.
-    ways = {(0, 0): 1}
-    for taken in range(len(first) + 1):
-        for more in range(len(second) + 1):
-            count = ways.get((taken, more), 0)
-            begun = first[:taken] + second[:more]
-            if can_go_on(parents, begun, first[taken:]):
-                ways[(taken + 1, more)] = ways.get((taken + 1, more), 0) + count
-            if can_go_on(parents, begun, second[more:]):
-                ways[(taken, more + 1)] = ways.get((taken, more + 1), 0) + count
-    return ways.get((len(first), len(second)), 0)
+    ways = {(taken, more): 0 for taken in range(len(first) + 1) for more in range(len(second) + 1)}
+    ways[(0, 0)] = 1
+    for taken, more in list(ways):
+        begun = first[:taken] + second[:more]
+        if can_go_on(parents, begun, first[taken:]):
+            ways[(taken + 1, more)] += ways[(taken, more)]
+        if can_go_on(parents, begun, second[more:]):
+            ways[(taken, more + 1)] += ways[(taken, more)]
+    return ways[(len(first), len(second))]
 
 
 def merge_for(first, second, tree):

@@ -162,9 +162,9 @@ def roots_found(keys, observations):
 
 
 def ends_of_freedom(keys, observations):
-    """Return a list for each key: for each place to begin at, the place before which a part must end.
+    """Return a list for each key: for each place to begin at, the last end of a part whose root the key can be.
 
-    Longer parts of neighbouring keys contain both keys of an observation that bars the key as the root.
+    Longer parts of neighbouring keys contain both keys of an observation that bars it as the root.
     """
     places = {key: place for place, key in enumerate(keys)}
     ends = [[len(keys)] * len(keys) for key in keys]

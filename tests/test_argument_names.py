@@ -112,6 +112,12 @@ def called(function, *arguments, **named):
     return list(result) if inspect.isgenerator(result) else result
 
 
+def lists_in(value):
+    """Return all lists in a value, those inside of others too."""
+    inner = [one for item in value for one in lists_in(item)] if isinstance(value, (list, tuple)) else []
+    return [value] + inner if isinstance(value, list) else inner
+
+
 class ArgumentNames(unittest.TestCase):
     def same(self, result, expected):
         self.assertEqual(result, expected)
@@ -189,10 +195,15 @@ class ArgumentNames(unittest.TestCase):
             for repeated in range(2):
                 self.assertEqual(called(function, **arguments), expected)
 
-    def test_lists_are_not_arguments(self):
+    def test_changed_results_change_nothing(self):
         for function, arguments, expected in CALLS:
+            before = repr((arguments, expected))
             result = called(function, **arguments)
-            found = [result, *(result if isinstance(result, (list, tuple)) else [])]
-            for one in found:
-                if isinstance(one, list):
-                    self.assertFalse(any(one is argument for argument in arguments.values()))
+            found = lists_in(result)
+            with self.subTest(function.__name__):
+                self.assertEqual(len({id(one) for one in found}), len(found))
+                for one in found:
+                    one.clear()
+                    one.append(None)
+                self.assertEqual(repr((arguments, expected)), before)
+                self.same(called(function, **arguments), expected)
