@@ -93,6 +93,14 @@ class Standing(unittest.TestCase):
             word = "always" if linked_above(nodes, upper, lower) else "never"
             self.assertEqual(self.check_result(sorted(order), facts, upper, lower), word)
 
+    def test_chains_of_all_keys(self):
+        keys = list(range(40))
+        facts = list(zip(keys, keys[1:]))
+        self.assertEqual(self.check_result(keys, facts, 0, 39), "always")
+        self.assertEqual(standing(keys, facts, 0, 39)[1][-1], keys)
+        self.assertEqual(self.check_result(keys, facts, 39, 0), "never")
+        self.assertIs(is_standing(keys, facts, 39, 0, ("never", keys)), True)
+
     def test_arguments_stay(self):
         keys, facts = [1, 2, 3], [(2, 1)]
         for pair in itertools.permutations(keys, 2):
